@@ -1,0 +1,59 @@
+// Package sieve: messages for those whose selectors they meet: see DOC.md.
+package sieve
+
+import (
+	"strings"
+
+	"sieve/api"
+	"sieve/events"
+	"sieve/selector"
+)
+
+// Eval tells what a selector is of an event (P3, P4).
+func Eval(text string, event []api.Property) (api.Value, api.Errno, int) {
+	root, errno, place := selector.Read(text)
+	if errno != api.OK {
+		return api.Value{}, errno, place
+	}
+	if !events.Valid(event) {
+		return api.Value{}, api.ErrEvent, 0
+	}
+	answer := root.Of(event)
+	answer.Str = strings.Clone(answer.Str) // it may be the event's own memory
+	return answer, api.OK, 0
+}
+
+// Canon tells a selector's canonical text (P5).
+func Canon(text string) (string, api.Errno, int) { return "", api.OK, 0 }
+
+// Compile makes one program of selectors (P6).
+func Compile(texts []string) ([]byte, api.Errno, int) { return nil, api.OK, 0 }
+
+// Run tells which of a program's selectors an event meets (P7).
+func Run(code []byte, event []api.Property) ([]int, api.Errno) { return nil, api.OK }
+
+// Broker gives messages to subscriptions.
+type Broker struct{}
+
+// New makes a broker (P8).
+func New() *Broker { return nil }
+
+// Subscribe begins a subscription (P9).
+func (b *Broker) Subscribe(id int, text string) (api.Errno, int) { return api.OK, 0 }
+
+// Unsubscribe ends one (P9).
+func (b *Broker) Unsubscribe(id int) api.Errno { return api.OK }
+
+// Publish gives a message to all whose selectors its event meets (P10).
+func (b *Broker) Publish(priority int, event []api.Property) ([]int, []int, api.Errno) {
+	return nil, nil, api.OK
+}
+
+// Poll takes a subscription's next message (P11).
+func (b *Broker) Poll(id int) (int, api.Errno) { return 0, api.OK }
+
+// Nodes tells how many terms all selectors have together (P12).
+func (b *Broker) Nodes() int { return 0 }
+
+// Live tells which subscriptions there are (P12).
+func (b *Broker) Live() []int { return nil }
