@@ -3,7 +3,6 @@ package selector
 import (
 	"sieve/api"
 	"sieve/events"
-	"sieve/pattern"
 	"sieve/value"
 )
 
@@ -29,6 +28,20 @@ func (n *Node) Of(event []api.Property) api.Value {
 // join works a term out from what its sides are.
 func (n *Node) join(x, y, z api.Value) api.Value {
 	switch n.Op {
+	case Between:
+		return value.And(value.LessEqual(y, x), value.LessEqual(x, z))
+	case In:
+		return n.among(x)
+	case Like:
+		return value.Like(x, n.Str, n.Escape)
+	}
+	return n.Op.Join(x, y)
+}
+
+// Join works an operator out that needs nothing but what its two sides are,
+// or its only one, x.
+func (op Op) Join(x, y api.Value) api.Value {
+	switch op {
 	case Not:
 		return value.Not(x)
 	case And:
@@ -63,12 +76,6 @@ func (n *Node) join(x, y, z api.Value) api.Value {
 		return value.Multiply(x, y)
 	case Divide:
 		return value.Divide(x, y)
-	case Between:
-		return value.And(value.LessEqual(y, x), value.LessEqual(x, z))
-	case In:
-		return n.among(x)
-	case Like:
-		return n.like(x)
 	}
 	return value.IsNull(x)
 }
@@ -79,11 +86,4 @@ func (n *Node) among(x api.Value) api.Value {
 		found = value.Or(found, value.Equal(x, value.Text(text)))
 	}
 	return found
-}
-
-func (n *Node) like(x api.Value) api.Value {
-	if x.Kind != api.Text {
-		return api.Value{}
-	}
-	return value.Bool(pattern.Fits(n.Str, n.Escape, x.Str))
 }

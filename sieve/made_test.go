@@ -4,6 +4,7 @@ import (
 	"math/big"
 	"math/rand"
 	"regexp"
+	"slices"
 	"strings"
 	"testing"
 
@@ -12,7 +13,8 @@ import (
 )
 
 // maker writes a selector of its own choice and works out along the way, apart
-// from the program, which error it has, or else what it is of an event.
+// from the program, which error it has, or else what it is of an event, and
+// its canonical text.
 type maker struct {
 	r     *rand.Rand
 	event []api.Property
@@ -25,6 +27,7 @@ type maker struct {
 type made struct {
 	class string
 	val   api.Value
+	canon forms
 }
 
 func (m *maker) put(token string) int {
@@ -70,7 +73,7 @@ func (m *maker) either(open int, wish string) made {
 		place := m.put(m.pick("OR", "or"))
 		right := m.both(open, wish)
 		m.judge(place, are("bool", left, right))
-		left = made{"bool", someTrue(left.val, right.val)}
+		left = made{"bool", someTrue(left.val, right.val), orForms(left.canon, right.canon)}
 	}
 	return left
 }
@@ -81,7 +84,7 @@ func (m *maker) both(open int, wish string) made {
 		place := m.put(m.pick("AND", "And"))
 		right := m.denied(open, wish)
 		m.judge(place, are("bool", left, right))
-		left = made{"bool", turned(someTrue(turned(left.val), turned(right.val)))}
+		left = made{"bool", turned(someTrue(turned(left.val), turned(right.val))), andForms(left.canon, right.canon)}
 	}
 	return left
 }
@@ -93,7 +96,7 @@ func (m *maker) denied(open int, wish string) made {
 	place := m.opens(m.pick("NOT", "not"), open)
 	inner := m.denied(open+1, wish)
 	m.judge(place, are("bool", inner))
-	return made{"bool", turned(inner.val)}
+	return made{"bool", turned(inner.val), notForms(inner.canon)}
 }
 
 func (m *maker) test(open int, wish string) made {
@@ -124,11 +127,14 @@ func (m *maker) equation(open int) made {
 	place := m.put(token)
 	right := m.sum(open, wish)
 	m.judge(place, left.class == "any" || are(left.class, right))
-	val := null
+	val, canon := null, testForms(inOrder(left.canon[0], "=", right.canon[0]))
 	if left.val.Kind == right.val.Kind && left.val.Kind != api.Null {
 		val = truth((left.val == right.val) == (token == "="))
 	}
-	return made{"bool", val}
+	if token == "<>" {
+		canon = notForms(canon)
+	}
+	return made{"bool", val, canon}
 }
 
 func (m *maker) order(open int) made {
@@ -137,7 +143,7 @@ func (m *maker) order(open int) made {
 	place := m.put(token)
 	right := m.sum(open, "number")
 	m.judge(place, are("number", left, right))
-	return made{"bool", ordered(left.val, token, right.val)}
+	return made{"bool", ordered(left.val, token, right.val), orderForms(left.canon[0], token, right.canon[0])}
 }
 
 func (m *maker) between(open int) made {
@@ -149,7 +155,8 @@ func (m *maker) between(open int) made {
 	high := m.sum(open, "number")
 	m.judge(place, are("number", x, low, high))
 	outside := someTrue(ordered(x.val, "<", low.val), ordered(x.val, ">", high.val))
-	return made{"bool", maybeTurned(turned(outside), not)}
+	canon := andForms(orderForms(x.canon[0], ">=", low.canon[0]), orderForms(x.canon[0], "<=", high.canon[0]))
+	return made{"bool", turned(outside), canon}.maybeTurned(not)
 }
 
 func (m *maker) not() bool {
@@ -165,20 +172,22 @@ func (m *maker) among() made {
 	not := m.not()
 	m.put("IN")
 	m.put("(")
-	found := false
+	found, texts := false, map[string]bool{}
 	for more := true; more; {
-		s := m.pick("", "x", "it's", "%a", "y")
+		s := m.pick("", "x", "it's", "%a", "y", "xx", "'")
 		m.put(quote(s))
 		found = found || s == x.val.Str
+		texts[s] = true
 		if more = m.chance(40); more {
 			m.put(",")
 		}
 	}
 	m.put(")")
-	if x.val.Kind != api.Text {
-		return made{"bool", null}
+	val := null
+	if x.val.Kind == api.Text {
+		val = truth(found)
 	}
-	return made{"bool", maybeTurned(truth(found), not)}
+	return made{"bool", val, amongForms(x.canon[0], texts)}.maybeTurned(not)
 }
 
 func (m *maker) like() made {
@@ -187,15 +196,18 @@ func (m *maker) like() made {
 	m.put("LIKE")
 	pattern, escape := m.pick("%", "x", "_", "it%", "__", "!%a", "%!!", "", "%a%", "!_!_"), ""
 	m.put(quote(pattern))
+	canon := x.canon[0] + " LIKE " + quote(pattern)
 	if m.chance(40) {
 		escape = m.pick("!", "#", "'")
 		m.put("ESCAPE")
 		m.put(quote(escape))
+		canon += " ESCAPE " + quote(escape)
 	}
-	if x.val.Kind != api.Text {
-		return made{"bool", null}
+	val := null
+	if x.val.Kind == api.Text {
+		val = truth(asExpression(pattern, escape).MatchString(x.val.Str))
 	}
-	return made{"bool", maybeTurned(truth(asExpression(pattern, escape).MatchString(x.val.Str)), not)}
+	return made{"bool", val, testForms("(" + canon + ")")}.maybeTurned(not)
 }
 
 func (m *maker) isNull() made {
@@ -203,7 +215,7 @@ func (m *maker) isNull() made {
 	m.put("IS")
 	not := m.not()
 	m.put("NULL")
-	return made{"bool", maybeTurned(truth(x.val.Kind == api.Null), not)}
+	return made{"bool", truth(x.val.Kind == api.Null), testForms("(" + x.canon[0] + " IS NULL)")}.maybeTurned(not)
 }
 
 func (m *maker) sum(open int, wish string) made {
@@ -226,7 +238,7 @@ func (m *maker) reckoned(left made, token string, open int, operand func(int, st
 	place := m.put(token)
 	right := operand(open, "number")
 	m.judge(place, are("number", left, right))
-	return made{"number", exactly(left.val, token, right.val)}
+	return made{"number", exactly(left.val, token, right.val), sumForms(left.canon[0], token, right.canon[0])}
 }
 
 func (m *maker) signed(open int, wish string) made {
@@ -244,7 +256,7 @@ func (m *maker) signed(open int, wish string) made {
 		place := m.opens(sign, open)
 		inner := m.signed(open+1, wish)
 		m.judge(place, are("number", inner))
-		return made{"number", exactly(num(0), sign, inner.val)}
+		return made{"number", exactly(num(0), sign, inner.val), sumForms("0", sign, inner.canon[0])}
 	}
 	if m.chance(40) {
 		return m.name()
@@ -258,25 +270,25 @@ func (m *maker) written(wish string) made {
 		digits := m.pick("0", "1", "2", "07", "9223372036854775807", "4611686018427387904")
 		m.put(digits)
 		n, _ := new(big.Int).SetString(digits, 10)
-		return made{"number", num(n.Int64())}
+		return made{"number", num(n.Int64()), forms{n.String()}}
 	case "text":
 		s := m.pick("", "x", "it's", "NOT")
 		m.put(quote(s))
-		return made{"text", text(s)}
+		return made{"text", text(s), forms{quote(s)}}
 	}
 	word := m.pick("TRUE", "FALSE", "true")
 	m.put(word)
-	return made{"bool", truth(word != "FALSE")}
+	return made{"bool", truth(word != "FALSE"), truthForms(word != "FALSE")}
 }
 
 func (m *maker) name() made {
 	if m.chance(10) {
 		m.put("absent")
-		return made{"any", null}
+		return made{"any", null, nameForms("absent")}
 	}
 	p := m.event[m.r.Intn(len(m.event))]
 	m.put(p.Name)
-	return made{"any", p.Val}
+	return made{"any", p.Val, nameForms(p.Name)}
 }
 
 func quote(s string) string { return "'" + strings.ReplaceAll(s, "'", "''") + "'" }
@@ -298,9 +310,9 @@ func turned(x api.Value) api.Value {
 	return null
 }
 
-func maybeTurned(x api.Value, not bool) api.Value {
+func (x made) maybeTurned(not bool) made {
 	if not {
-		return turned(x)
+		return made{x.class, turned(x.val), notForms(x.canon)}
 	}
 	return x
 }
@@ -362,31 +374,51 @@ func asExpression(pattern, escape string) *regexp.Regexp {
 	return regexp.MustCompile(out + "$")
 }
 
-// TestP3P4Made holds the program's answers against the maker's.
-func TestP3P4Made(t *testing.T) {
+// sample is a text, and what a program must answer of it.
+type sample struct {
+	text  string
+	val   api.Value
+	canon string
+	errno api.Errno
+	place int
+}
+
+func madeEvent() []api.Property {
+	return []api.Property{{Name: "i", Val: num(5)}, {Name: "j", Val: num(-1 << 63)}, {Name: "k", Val: num(1<<63 - 1)}, {Name: "s", Val: text("x")}, {Name: "u", Val: text("it's")}, {Name: "v", Val: yes}, {Name: "w", Val: no}, {Name: "n"}}
+}
+
+// someSample makes a text: a selector, if all goes well.
+func someSample(r *rand.Rand) sample {
+	m := &maker{r: r, event: madeEvent(), deep: -1, wrong: -1, nest: []int{5, 20, 45, 80}[r.Intn(4)]}
+	top := m.either(0, "bool")
+	switch {
+	case len(m.text) > 200:
+		return sample{text: m.text, errno: api.ErrLong}
+	case m.deep >= 0:
+		return sample{text: m.text, errno: api.ErrDeep, place: m.deep}
+	case m.wrong >= 0:
+		return sample{text: m.text, errno: api.ErrType, place: m.wrong}
+	case !are("bool", top):
+		return sample{text: m.text, errno: api.ErrType}
+	}
+	return sample{text: m.text, val: top.val, canon: top.canon[0]}
+}
+
+// TestMade holds the program's answers of single texts against the maker's (P3 to P5).
+func TestMade(t *testing.T) {
 	r := rand.New(rand.NewSource(1))
-	event := []api.Property{{Name: "i", Val: num(5)}, {Name: "j", Val: num(-1 << 63)}, {Name: "k", Val: num(1<<63 - 1)}, {Name: "s", Val: text("x")}, {Name: "u", Val: text("it's")}, {Name: "v", Val: yes}, {Name: "w", Val: no}, {Name: "n"}}
 	count := map[api.Errno]int{}
 	values := map[api.Value]int{}
 	for range 100000 {
-		m := &maker{r: r, event: event, deep: -1, wrong: -1, nest: []int{5, 20, 45, 80}[r.Intn(4)]}
-		top := m.either(0, "bool")
-		want, wantErrno, wantPlace := top.val, api.OK, 0
-		switch {
-		case len(m.text) > 200:
-			want, wantErrno = null, api.ErrLong
-		case m.deep >= 0:
-			want, wantErrno, wantPlace = null, api.ErrDeep, m.deep
-		case m.wrong >= 0:
-			want, wantErrno, wantPlace = null, api.ErrType, m.wrong
-		case !are("bool", top):
-			want, wantErrno = null, api.ErrType
+		s := someSample(r)
+		if got, errno, place := sieve.Eval(s.text, madeEvent()); got != s.val || errno != s.errno || place != s.place {
+			t.Fatalf("Eval(%q) = %v, %d, %d, want %v, %d, %d", s.text, got, errno, place, s.val, s.errno, s.place)
 		}
-		if got, errno, place := sieve.Eval(m.text, event); got != want || errno != wantErrno || place != wantPlace {
-			t.Fatalf("Eval(%q) = %v, %d, %d, want %v, %d, %d", m.text, got, errno, place, want, wantErrno, wantPlace)
+		if got, errno, place := sieve.Canon(s.text); got != s.canon || errno != s.errno || place != s.place {
+			t.Fatalf("Canon(%q) = %q, %d, %d, want %q, %d, %d", s.text, got, errno, place, s.canon, s.errno, s.place)
 		}
-		count[wantErrno]++
-		values[want]++
+		count[s.errno]++
+		values[s.val]++
 	}
 	for _, errno := range []api.Errno{api.OK, api.ErrLong, api.ErrDeep, api.ErrType} {
 		if count[errno] < 1000 {
@@ -394,4 +426,53 @@ func TestP3P4Made(t *testing.T) {
 		}
 	}
 	t.Log(count, values)
+}
+
+// TestMadePrograms does the same with several texts at once (P6, P7).
+func TestMadePrograms(t *testing.T) {
+	r := rand.New(rand.NewSource(2))
+	count := map[api.Errno]int{}
+	for range 6000 {
+		least := r.Intn(2) * r.Intn(150) // long ones fill a program
+		var texts []string
+		var met []int
+		want, at, terms := api.OK, 0, terms{}
+		for number := range r.Intn(9) {
+			s := someSample(r)
+			for (s.errno != api.OK || len(s.text) < least) && r.Intn(20) > 0 {
+				s = someSample(r)
+			}
+			texts = append(texts, s.text)
+			if want != api.OK {
+				continue
+			}
+			if terms.add(s.canon); s.errno != api.OK {
+				want, at = s.errno, number
+			} else if len(terms) > 80 {
+				want, at = api.ErrFull, number
+			} else if s.val == yes {
+				met = append(met, number)
+			}
+		}
+		code, errno, number := sieve.Compile(texts)
+		if errno != want || number != at || errno != api.OK && len(code) > 0 {
+			t.Fatalf("Compile(%q): %d bytes, %d, %d, want %d, %d", texts, len(code), errno, number, want, at)
+		}
+		count[want]++
+		if want != api.OK {
+			continue
+		}
+		if most := 16 + terms.bytes() + 4*len(texts); len(code) > most {
+			t.Fatalf("Compile(%q): %d bytes, want at most %d", texts, len(code), most)
+		}
+		if got, errno := sieve.Run(code, madeEvent()); !slices.Equal(got, met) || errno != api.OK {
+			t.Fatalf("Run(Compile(%q)) = %v, %d, want %v", texts, got, errno, met)
+		}
+	}
+	for _, errno := range []api.Errno{api.OK, api.ErrLong, api.ErrDeep, api.ErrType, api.ErrFull} {
+		if count[errno] < 20 {
+			t.Errorf("only %d lists with the answer %d", count[errno], errno)
+		}
+	}
+	t.Log(count)
 }

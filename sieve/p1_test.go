@@ -95,6 +95,43 @@ func TestP1Anything(t *testing.T) {
 	}
 }
 
+// TestP1AnyTexts does the same for Canon, Compile and Run.
+func TestP1AnyTexts(t *testing.T) {
+	r := rand.New(rand.NewSource(2))
+	for range 50000 {
+		var texts []string
+		for range r.Intn(11) {
+			texts = append(texts, []string{soup(r), "a", "b = 'x'", "NOT c"}[r.Intn(4)])
+		}
+		for _, s := range texts {
+			canon, errno, place := sieve.Canon(s)
+			_, wantErrno, wantPlace := sieve.Eval(s, nil)
+			if errno != wantErrno || place != wantPlace || (canon == "") != (errno != api.OK) {
+				t.Fatalf("Canon(%q) = %q, %d, %d, want %d, %d", s, canon, errno, place, wantErrno, wantPlace)
+			}
+		}
+		code, errno, number := sieve.Compile(texts)
+		if errno != api.OK && (len(code) != 0 || number < 0 || number >= len(texts)) || errno == api.OK && number != 0 {
+			t.Fatalf("Compile(%q): %d bytes, %d, %d", texts, len(code), errno, number)
+		}
+		event := someEvent(r)
+		met, runErrno := sieve.Run(code, event)
+		if _, errno, _ := sieve.Eval("TRUE", event); errno != api.OK && (runErrno != errno || len(met) != 0) {
+			t.Fatalf("Run over %v: %v, %d, want %d", event, met, runErrno, errno)
+		}
+	}
+}
+
+func TestP1GreatTexts(t *testing.T) {
+	for _, piece := range []string{"(", "a", " ", "NOT ", "-", "'", "9", "\x00"} {
+		great := strings.Repeat(piece, 1<<20)
+		if canon, errno, place := sieve.Canon(great); canon != "" || errno != api.ErrLong || place != 0 {
+			t.Errorf("Canon of a great text: %d bytes, %d, %d", len(canon), errno, place)
+		}
+		wantRefused(t, api.ErrLong, 1, "a", great)
+	}
+}
+
 // TestP1Cut cuts a selector with every kind of term off at each of its bytes.
 func TestP1Cut(t *testing.T) {
 	for _, selector := range []string{
@@ -103,8 +140,16 @@ func TestP1Cut(t *testing.T) {
 	} {
 		wantValue(t, selector, nil, null)
 		for end := range len(selector) {
-			sieve.Eval(selector[:end], example())
-			sieve.Eval(selector[end:], example())
+			for _, piece := range []string{selector[:end], selector[end:]} {
+				_, errno, place := sieve.Eval(piece, example())
+				canon, canonErrno, canonPlace := sieve.Canon(piece)
+				if canonErrno != errno || canonPlace != place || (canon == "") != (errno != api.OK) {
+					t.Errorf("Canon(%q) = %q, %d, %d, want %d, %d", piece, canon, canonErrno, canonPlace, errno, place)
+				}
+				if errno != api.OK {
+					wantRefused(t, errno, 1, "a", piece)
+				}
+			}
 		}
 	}
 }

@@ -5,7 +5,9 @@ import (
 	"strings"
 
 	"sieve/api"
+	"sieve/core"
 	"sieve/events"
+	"sieve/program"
 	"sieve/selector"
 )
 
@@ -24,13 +26,44 @@ func Eval(text string, event []api.Property) (api.Value, api.Errno, int) {
 }
 
 // Canon tells a selector's canonical text (P5).
-func Canon(text string) (string, api.Errno, int) { return "", api.OK, 0 }
+func Canon(text string) (string, api.Errno, int) {
+	root, errno, place := selector.Read(text)
+	if errno != api.OK {
+		return "", errno, place
+	}
+	return core.Of(root).Text, api.OK, 0
+}
 
 // Compile makes one program of selectors (P6).
-func Compile(texts []string) ([]byte, api.Errno, int) { return nil, api.OK, 0 }
+func Compile(texts []string) ([]byte, api.Errno, int) {
+	if len(texts) > api.MaxSubs {
+		return nil, api.ErrFull, 0
+	}
+	maker := program.NewMaker()
+	for number, text := range texts {
+		root, errno, _ := selector.Read(text)
+		if errno != api.OK {
+			return nil, errno, number
+		}
+		maker.Add(core.Of(root))
+		if maker.Terms() > api.MaxNodes {
+			return nil, api.ErrFull, number
+		}
+	}
+	return maker.Bytes(), api.OK, 0
+}
 
 // Run tells which of a program's selectors an event meets (P7).
-func Run(code []byte, event []api.Property) ([]int, api.Errno) { return nil, api.OK }
+func Run(code []byte, event []api.Property) ([]int, api.Errno) {
+	if !events.Valid(event) {
+		return nil, api.ErrEvent
+	}
+	p, ok := program.Read(code)
+	if !ok {
+		return nil, api.ErrCode
+	}
+	return p.Run(event), api.OK
+}
 
 // Broker gives messages to subscriptions.
 type Broker struct{}

@@ -2,7 +2,10 @@
 // and a logic in which Null is neither true nor false.
 package value
 
-import "sieve/api"
+import (
+	"sieve/api"
+	"sieve/pattern"
+)
 
 // Bool gives true or false.
 func Bool(b bool) api.Value {
@@ -72,6 +75,14 @@ func LessEqual(x, y api.Value) api.Value {
 		return null()
 	}
 	return Bool(x.Num <= y.Num)
+}
+
+// Like holds a text against a pattern, with an escape or the empty text.
+func Like(x api.Value, fit, escape string) api.Value {
+	if x.Kind != api.Text {
+		return null()
+	}
+	return Bool(pattern.Fits(fit, escape, x.Str))
 }
 
 // IsNull asks for Null, and so never answers it.

@@ -59,6 +59,21 @@ func TestCompare(t *testing.T) {
 	}
 }
 
+func TestLike(t *testing.T) {
+	for _, c := range []struct {
+		x           api.Value
+		fit, escape string
+		want        api.Value
+	}{
+		{Text("ab"), "a%", "", yes}, {Text("ab"), "a", "", no}, {Text("a%"), "a!%", "!", yes}, {Text("ab"), "a!%", "!", no}, {Text(""), "", "", yes},
+		{none, "%", "", none}, {Int(1), "%", "", none}, {yes, "%", "", none}, {no, "", "!", none},
+	} {
+		if got := Like(c.x, c.fit, c.escape); got != c.want {
+			t.Errorf("%v LIKE %q ESCAPE %q = %v, want %v", c.x, c.fit, c.escape, got, c.want)
+		}
+	}
+}
+
 func exact(n *big.Int) api.Value {
 	if !n.IsInt64() {
 		return none
