@@ -16,7 +16,7 @@ func spelled(c Core) *Core {
 func (c *Core) spell() string {
 	switch c.Op {
 	case selector.Name:
-		return strings.Clone(c.Str) // it is the selector's own memory
+		return c.Str
 	case selector.Number:
 		return strconv.FormatInt(c.Num, 10)
 	case selector.Text:

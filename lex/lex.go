@@ -43,7 +43,8 @@ const (
 	Comma
 )
 
-// Token is one token and the place of its first byte.
+// Token is one token and the place of its first byte. It shares no memory with
+// the selector, so that what is made of it may be kept.
 type Token struct {
 	Kind  Kind
 	Place int
@@ -91,7 +92,7 @@ func word(rest string) (Token, int) {
 	if kind != Name {
 		return Token{Kind: kind}, size
 	}
-	return Token{Kind: Name, Str: rest[:size]}, size
+	return Token{Kind: Name, Str: strings.Clone(rest[:size])}, size
 }
 
 func wordSize(rest string) int {

@@ -1,7 +1,9 @@
 package sieve_test
 
 import (
+	"math"
 	"math/rand"
+	"slices"
 	"strings"
 	"testing"
 
@@ -152,4 +154,63 @@ func TestP1Cut(t *testing.T) {
 			}
 		}
 	}
+}
+
+// TestP1AnyCalls calls a broker with anything: an error leaves all as it was.
+func TestP1AnyCalls(t *testing.T) {
+	r := rand.New(rand.NewSource(3))
+	ids := []int{0, 1, 2, 3, 4, 5, -1, 1 << 40, math.MinInt, math.MaxInt}
+	for range 500 {
+		b := sieve.New()
+		for range 200 {
+			nodes, live := b.Nodes(), b.Live()
+			id, errno, rest := ids[r.Intn(len(ids))], api.OK, 0
+			switch r.Intn(6) {
+			case 0:
+				selector := []string{soup(r), "a", "b = 'x'", "NOT c", joined(r.Intn(40), 20)}[r.Intn(5)]
+				place := 0
+				errno, place = b.Subscribe(id, selector)
+				if place < 0 || place > len(selector) || place > 0 && errno != api.ErrSyntax && errno != api.ErrDeep && errno != api.ErrType {
+					t.Fatalf("Subscribe(%d, %q) = %d, %d", id, selector, errno, place)
+				}
+			case 1:
+				errno = b.Unsubscribe(id)
+			case 2:
+				rest, errno = b.Poll(id)
+			default:
+				var met, full []int
+				met, full, errno = b.Publish(r.Intn(12)-1, someEvent(r))
+				rest = len(met) + len(full)
+			}
+			if errno != api.OK && (rest != 0 || b.Nodes() != nodes || !slices.Equal(b.Live(), live)) {
+				t.Fatalf("with the error %d: %d, %d terms, %v, before %d, %v", errno, rest, b.Nodes(), b.Live(), nodes, live)
+			}
+		}
+	}
+}
+
+// TestP1GreatCalls calls a broker with great texts and lists.
+func TestP1GreatCalls(t *testing.T) {
+	b := subscribed(t, "TRUE")
+	for _, piece := range []string{"(", "a", " ", "NOT ", "-", "'", "9", "\x00"} {
+		great := strings.Repeat(piece, 1<<20)
+		wantSubscribe(t, b, 1, great, api.ErrLong, 0)
+		wantSubscribe(t, b, 0, great, api.ErrTwice, 0)
+		wantNoMessage(t, b, 0, []api.Property{{Name: great}})
+		wantNoMessage(t, b, 0, []api.Property{{Name: "a", Val: text(great)}})
+	}
+	wantNoMessage(t, b, 0, make([]api.Property, 1<<20))
+	wantState(t, b, 1, 0)
+	wantPolls(t, b, 0, 0)
+}
+
+// TestP1ManyMessages publishes far more messages than anybody has room for.
+func TestP1ManyMessages(t *testing.T) {
+	b := subscribed(t, "TRUE", "c")
+	for range 1 << 17 {
+		b.Publish(0, nil)
+	}
+	wantPublish(t, b, 9, example(), []int{0, 1}, []int{0})
+	wantPolls(t, b, 1, 1<<17+1, 0)
+	wantPolls(t, b, 0, 1, 2, 3, 4, 5, 6, 0)
 }

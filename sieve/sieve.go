@@ -64,29 +64,3 @@ func Run(code []byte, event []api.Property) ([]int, api.Errno) {
 	}
 	return p.Run(event), api.OK
 }
-
-// Broker gives messages to subscriptions.
-type Broker struct{}
-
-// New makes a broker (P8).
-func New() *Broker { return nil }
-
-// Subscribe begins a subscription (P9).
-func (b *Broker) Subscribe(id int, text string) (api.Errno, int) { return api.OK, 0 }
-
-// Unsubscribe ends one (P9).
-func (b *Broker) Unsubscribe(id int) api.Errno { return api.OK }
-
-// Publish gives a message to all whose selectors its event meets (P10).
-func (b *Broker) Publish(priority int, event []api.Property) ([]int, []int, api.Errno) {
-	return nil, nil, api.OK
-}
-
-// Poll takes a subscription's next message (P11).
-func (b *Broker) Poll(id int) (int, api.Errno) { return 0, api.OK }
-
-// Nodes tells how many terms all selectors have together (P12).
-func (b *Broker) Nodes() int { return 0 }
-
-// Live tells which subscriptions there are (P12).
-func (b *Broker) Live() []int { return nil }
